@@ -1,0 +1,1 @@
+"""Creditfloor: credit balances with which no sender ever stalls."""
