@@ -33,6 +33,11 @@ def after_demand(balances, demand, budget):
     senders = stalled(balances, demand)
     if senders != ():
         raise Stall(senders)
+    return less_demand(balances, demand)
+
+
+def less_demand(balances, demand):
+    """Return the balances less a demand with which no sender stalls."""
     return tuple([balance - spent for balance, spent in zip(balances, demand)])
 
 

@@ -5,29 +5,9 @@ import unittest
 
 from creditfloor import thresholds as module
 from creditfloor.thresholds import least_equal, steps, threshold, thresholds
+from tests.helpers import kept_with_whole_demands
 
 BUDGETS = (1, 2, 3, 4, 7, 10, 999, 10 ** 6)
-
-
-def survives(start, budget):
-    """Play the game of [3] by its definition: can the receiver prevent a stall forever?
-
-    All demands are of the whole budget, so the total stays the same and the game is finite.
-    """
-    count, total = len(start), sum(start)
-    splits = [split for split in itertools.product(range(total + 1), repeat=count) if sum(split) == total]
-    demands = [split for split in itertools.product(range(budget + 1), repeat=count) if sum(split) == budget]
-    alive = {split for split in splits if min(split) >= budget}
-    while True:
-        kept = {split for split in alive if all(some_grant(split, demand, budget, alive) for demand in demands)}
-        if kept == alive:
-            return start in alive
-        alive = kept
-
-
-def some_grant(balances, demand, budget, alive):
-    left = [balance - spent for balance, spent in zip(balances, demand)]
-    return any(tuple(left[:at] + [left[at] + budget] + left[at + 1:]) in alive for at in range(len(left)))
 
 
 class ThresholdsTest(unittest.TestCase):
@@ -134,8 +114,9 @@ class LeastEqualTest(unittest.TestCase):
         for count, budget in ((1, 1), (1, 3), (2, 1), (2, 2), (2, 3), (3, 1), (3, 2), (3, 3), (4, 2)):
             with self.subTest(count=count, budget=budget):
                 balance = least_equal(count, budget)
-                self.assertTrue(survives((balance,) * count, budget))
-                self.assertFalse(survives((balance - 1,) * count, budget))
+                for held, right in ((balance, True), (balance - 1, False)):
+                    kept = kept_with_whole_demands(count, budget, held * count)
+                    self.assertIs((held,) * count in kept, right)
 
     def test_by_name(self):
         self.assertEqual(least_equal(budget=2, count=4), 4)

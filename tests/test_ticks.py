@@ -5,31 +5,9 @@ import unittest
 from creditfloor import ticks as module
 from creditfloor.errors import BadDemand, NoSender, Stall
 from creditfloor.ticks import after_demand, after_grant, after_tick, is_balances, is_demand, stalled
+from tests.helpers import ODD_THINGS, nested
 
 
-def nested(depth):
-    thing = (1,)
-    for _ in range(depth - 1):
-        thing = (thing,)
-    return thing
-
-
-class Odd:
-    """Neither a tuple nor an integer, though it equals everything."""
-
-    def __eq__(self, other):
-        return True
-
-    def __len__(self):
-        return 2
-
-
-# None of these is balances, a demand or a sender.
-ODD_THINGS = (
-    None, True, False, "", "a", "1 2", "a\nb", b"", b"12", [], [1, 1], [1, [1]], {}, {0: 1, 1: 1}, {1, 2},
-    frozenset((1, 2)), range(2), object(), Odd(), len, int, ValueError("x"), nested(2), nested(30), ("1", "1"),
-    (None, None), (1, None), ((1,), (1,)), ([1], 1), (True, 1), (1, False), (b"1", 1), ({}, {}), (Odd(), 1), (),
-)
 ODD_SENDERS = ODD_THINGS + (-1, -3, 3, 4, 10 ** 30, -10 ** 30, "0", (0,), [0])
 
 
