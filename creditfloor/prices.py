@@ -1,7 +1,7 @@
 """Prices: the cheapest safe balances above given ones, and lower bounds of their cost."""
 
 from creditfloor.checks import is_integer, is_senders
-from creditfloor.safety import poorest_first, slack, sums
+from creditfloor.safety import least_beside, poorest_first, slack, sums
 from creditfloor.thresholds import thresholds
 
 
@@ -20,13 +20,6 @@ def dearest_first(prices):
     return sorted(range(len(prices)), key=lambda at: (-prices[at], at))
 
 
-def least_beside(taken, budget):
-    """Return the least balance with which one more sender is in no weak set with the taken balances."""
-    least = sums(taken)
-    held = (0, *least)
-    return max([need - have for need, have in zip(thresholds(len(held), budget), held)])
-
-
 def raise_cost(balances, prices, other):
     """Return the sum of price * (other - balance)."""
     return sum([price * (after - before) for before, price, after in zip(balances, prices, other)])
@@ -35,15 +28,20 @@ def raise_cost(balances, prices, other):
 def lower_bound(balances, prices, budget):
     """Return a lower bound of the cost of raised."""
     order = dearest_first(prices)
+    # The senders taken so far need what their weakest set lacks, at least at the price of the last one.
+    groups = [weakest_set(balances, budget, order[:at + 1]) for at in range(len(order))]
+    return rows_of_falls(prices, groups)
+
+
+def rows_of_falls(prices, groups):
+    """Return the rows of the groups, one group for each of the senders in descending order of price."""
+    ordered = [prices[sender] for sender in dearest_first(prices)]
     rows = {}
-    for at, sender in enumerate(order):
-        # The senders taken so far need what their weakest set lacks, at least at this price. Each row
-        # counts only the fall to the next price, so that no sender is counted above its own price.
-        following = prices[order[at + 1]] if at + 1 < len(order) else 0
-        multiplier = prices[sender] - following
-        senders = weakest_set(balances, budget, order[:at + 1])
-        if multiplier > 0 and senders != ():
-            rows[senders] = rows.get(senders, 0) + multiplier
+    for senders, price, following in zip(groups, ordered, ordered[1:] + [0]):
+        # A row counts only the fall to the next price: what a sender is counted from its own group on
+        # sums to its price.
+        if price > following and senders != ():
+            rows[senders] = rows.get(senders, 0) + price - following
     return tuple([(multiplier, senders) for senders, multiplier in rows.items()])
 
 

@@ -1,6 +1,7 @@
 """Safe balances: those in which no k senders have together less than R(k)."""
 
 from creditfloor.checks import is_senders
+from creditfloor.errors import NotSafe
 from creditfloor.thresholds import threshold, thresholds
 
 
@@ -50,3 +51,17 @@ def slack(balances, budget, senders):
 def poorest_first(balances, senders):
     """Return the list of the senders in ascending order of (balance, index)."""
     return sorted(senders, key=lambda at: (balances[at], at))
+
+
+def require_safe(balances, budget):
+    """Raise NotSafe with the first weak set if the balances are not safe."""
+    senders = weak_set(balances, budget)
+    if senders is not None:
+        raise NotSafe(senders)
+
+
+def least_beside(others, budget):
+    """Return the least balance with which one more sender is in no weak set with the other balances."""
+    least = sums(others)
+    held = (0, *least)
+    return max([need - have for need, have in zip(thresholds(len(held), budget), held)])

@@ -3,7 +3,7 @@
 import functools
 import itertools
 
-from creditfloor.thresholds import steps
+from creditfloor.thresholds import steps, threshold
 
 
 def nested(depth):
@@ -103,6 +103,25 @@ def kept_with_all_demands(count, budget, most):
     All demands are looked at. These balances are safe: to lose less is no worse for the receiver.
     """
     return greatest_kept(tuples(count, most), demands_of(count, budget), budget, most)
+
+
+def with_part(balances, at, part):
+    """The balances with this one in the place of that of sender at."""
+    return balances[:at] + (part,) + balances[at + 1:]
+
+
+def first_weak_set(balances, budget):
+    """The first weak set by its definition, None if there is none."""
+    order = sorted(range(len(balances)), key=lambda at: (balances[at], at))
+    for size in range(1, len(order) + 1):
+        if sum(balances[at] for at in order[:size]) < threshold(size, budget):
+            return tuple(sorted(order[:size]))
+    return None
+
+
+def dearest_first(prices):
+    """The senders in descending order of price, then in ascending order."""
+    return sorted(range(len(prices)), key=lambda at: (-prices[at], at))
 
 
 def subsets(senders):

@@ -7,7 +7,7 @@ from creditfloor import prices as module
 from creditfloor.prices import lower_bound, raise_cost, raised, shows_lower_bound
 from creditfloor.safety import is_safe, slack
 from creditfloor.thresholds import steps, threshold
-from tests.helpers import ODD_THINGS, Odd, is_plain, lcg, nested, parameters, subsets, tuples
+from tests.helpers import ODD_THINGS, Odd, dearest_first, is_plain, lcg, nested, parameters, subsets, tuples, with_part
 
 ROWS = ((2, (0, 2)), (1, (0, 1, 2)))
 SMALL = ((1, 1, 2), (1, 3, 2), (2, 1, 3), (2, 2, 3), (2, 3, 3), (3, 1, 2), (3, 2, 2))
@@ -40,10 +40,6 @@ def great_cases():
 
 def has_weak_set(balances, senders, budget):
     return any(sum(balances[at] for at in some) < threshold(len(some), budget) for some in subsets(senders))
-
-
-def in_order(prices):
-    return sorted(range(len(prices)), key=lambda at: (-prices[at], at))
 
 
 @functools.lru_cache(maxsize=None)
@@ -91,12 +87,12 @@ class RaisedTest(unittest.TestCase):
         self.assertEqual(len(found), len(balances))
         self.assertTrue(all(after >= before for before, after in zip(balances, found)))
         self.assertIs(is_safe(found, budget), True)
-        order = in_order(prices)
+        order = dearest_first(prices)
         for at, sender in enumerate(order):
             taken = order[:at + 1]
             self.assertFalse(has_weak_set(found, taken, budget))
             if found[sender] > balances[sender]:
-                less = found[:sender] + (found[sender] - 1,) + found[sender + 1:]
+                less = with_part(found, sender, found[sender] - 1)
                 self.assertTrue(has_weak_set(less, taken, budget))
 
     def test_by_definition_of_more(self):
