@@ -1,17 +1,14 @@
 """Balances, demands, and what a tick makes of them."""
 
-from creditfloor.checks import is_between
+from creditfloor.checks import MOST_SENDERS, is_amount, is_between
 from creditfloor.errors import BadDemand, NoSender, Stall
-
-MOST_SENDERS = 40
-MOST_CREDITS = 10 ** 12
 
 
 def is_balances(thing):
     """Tell whether the thing is balances."""
     if not isinstance(thing, tuple) or not 1 <= len(thing) <= MOST_SENDERS:
         return False
-    return all([is_between(part, 0, MOST_CREDITS) for part in thing])
+    return all([is_amount(part) for part in thing])
 
 
 def is_demand(thing, count, budget):

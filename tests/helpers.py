@@ -3,6 +3,7 @@
 import functools
 import itertools
 
+from creditfloor.links import Link
 from creditfloor.thresholds import steps, threshold
 
 
@@ -29,6 +30,18 @@ ODD_THINGS = (
     frozenset((1, 2)), range(2), object(), Odd(), len, int, ValueError("x"), nested(2), nested(30), ("1", "1"),
     (None, None), (1, None), ((1,), (1,)), ([1], 1), (True, 1), (1, False), (b"1", 1), ({}, {}), (Odd(), 1), (),
 )
+
+
+# The names of as many senders as a link can have, ascending.
+NAMES = tuple(first + second for first in "abcd" for second in "abcdefghij")
+
+
+def link_of(link_budget, **balances):
+    """A link with this budget and these balances."""
+    link = Link(link_budget)
+    for name, balance in balances.items():
+        link.enter(name, balance)
+    return link
 
 
 def tuples(count, most):

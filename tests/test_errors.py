@@ -3,6 +3,15 @@
 import unittest
 
 from creditfloor import errors
+from creditfloor.attacks import attack
+from creditfloor.links import Link
+from creditfloor.minimal import minimal_at, number_of
+from creditfloor.shell import Shell
+from creditfloor.spares import spares
+from creditfloor.texts import read_balances
+from creditfloor.ticks import after_demand, after_grant
+from creditfloor.transfers import transfers
+from tests.helpers import NAMES, link_of
 
 WITH_VALUE = (
     "BadDemand", "Stall", "NoSender", "NotSafe", "OtherTotal", "TooMany", "BadNumber", "NotMinimal", "BadName",
@@ -10,6 +19,31 @@ WITH_VALUE = (
     "BadCommand",
 )
 WITHOUT = ("AlreadySafe", "FullLink", "NothingToUndo")
+
+# For each exception a call that raises it, and its value.
+RAISED = {
+    "BadDemand": (lambda: after_demand((2, 2), (3, 0), 2), (3, 0)),
+    "Stall": (lambda: after_demand((2, 1), (0, 2), 2), (1,)),
+    "NoSender": (lambda: after_grant((2, 2), 2, 2), 2),
+    "NotSafe": (lambda: spares((9, 2, 2), 2), (1, 2)),
+    "OtherTotal": (lambda: transfers((2, 3), (2, 4), 2), 6),
+    "TooMany": (lambda: transfers((2, 2000), (2000, 2), 1), 1000),
+    "BadNumber": (lambda: minimal_at(2, 2, 2), 2),
+    "NotMinimal": (lambda: number_of((3, 3), 2), (3, 3)),
+    "BadName": (lambda: Link(2).enter("A", 2), "A"),
+    "TakenName": (lambda: link_of(2, a=2).enter("a", 9), "a"),
+    "UnknownName": (lambda: Link(2).leave("a"), "a"),
+    "BadAmount": (lambda: Link(2).enter("a", -1), -1),
+    "BadBudget": (lambda: Link(0), 0),
+    "BadSpends": (lambda: Link(2).tick(None), None),
+    "OverBudget": (lambda: link_of(2, a=2).tick((("a", 3),)), 3),
+    "Refused": (lambda: link_of(2, a=2).enter("b", 2), ("a", "b")),
+    "BadText": (lambda: read_balances(""), 0),
+    "BadCommand": (lambda: Shell(2).run("help"), "help"),
+    "AlreadySafe": (lambda: attack((2,), 2), None),
+    "FullLink": (lambda: link_of(1, **{name: 1 for name in NAMES}).enter("z", 1), None),
+    "NothingToUndo": (lambda: Link(2).undo(), None),
+}
 
 
 class ErrorsTest(unittest.TestCase):
@@ -57,6 +91,19 @@ class ErrorsTest(unittest.TestCase):
                 with self.assertRaises(ValueError) as caught:
                     raise getattr(errors, name)("x")
                 self.assertEqual(caught.exception.value, "x")
+
+    def test_each_is_raised(self):
+        self.assertEqual(set(RAISED), set(WITH_VALUE + WITHOUT))
+        for name, (call, value) in RAISED.items():
+            with self.subTest(name):
+                with self.assertRaises(ValueError) as caught:
+                    call()
+                self.assertIs(type(caught.exception), getattr(errors, name))
+                self.assertIsInstance(caught.exception, errors.CreditError)
+                for other in WITH_VALUE + WITHOUT:
+                    self.assertIs(isinstance(caught.exception, getattr(errors, other)), other == name)
+                self.assertIs(hasattr(caught.exception, "value"), name in WITH_VALUE)
+                self.assertEqual(getattr(caught.exception, "value", None), value)
 
 
 if __name__ == "__main__":

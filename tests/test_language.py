@@ -1,6 +1,7 @@
 """The rules of ../shared/LANGUAGE.md that can be read off the text of the files."""
 
 import ast
+import builtins
 import pathlib
 import re
 import unittest
@@ -58,6 +59,28 @@ class LanguageTest(unittest.TestCase):
             strings = [node.value for node in nodes(path, ast.Constant) if isinstance(node.value, str)]
             with self.subTest(path.name):
                 self.assertFalse([text for text in strings if "%" in text])
+
+    def test_names_mean_one_thing(self):
+        for path in FILES:
+            taken = set(dir(builtins)) | {alias.name for node in nodes(path, ast.ImportFrom) for alias in node.names}
+            taken |= {node.name for node in nodes(path, ast.ClassDef)}
+            bound = {node.id for node in nodes(path, ast.Name) if isinstance(node.ctx, ast.Store)}
+            bound |= {node.arg for node in nodes(path, ast.arg)} | {node.name for node in nodes(path, ast.FunctionDef)}
+            with self.subTest(path.name):
+                self.assertEqual(bound & taken, set())
+                self.assertFalse([name for name in bound if name.startswith("_") and not name.endswith("__")])
+
+    def test_methods_are_no_attributes(self):
+        methods = {part.name for path in FILES for node in nodes(path, ast.ClassDef)
+                   for part in node.body if isinstance(part, ast.FunctionDef)}
+        stored = {node.attr for path in FILES for node in nodes(path, ast.Attribute) if isinstance(node.ctx, ast.Store)}
+        self.assertEqual(methods & stored, set())
+
+    def test_no_generator_expressions(self):
+        # Link has an __eq__, so all, any, min, max, sum and sorted take lists.
+        for path in FILES:
+            with self.subTest(path.name):
+                self.assertEqual(nodes(path, ast.GeneratorExp), [])
 
 
 if __name__ == "__main__":

@@ -23,7 +23,8 @@ def safe_pairs(count, budget, above):
 
 
 def small_cases():
-    for count, budget, above in ((1, 1, 3), (1, 5, 2), (2, 1, 4), (2, 3, 3), (3, 2, 2), (3, 3, 0), (4, 1, 3), (4, 2, 0)):
+    sizes = ((1, 1, 3), (1, 5, 2), (2, 1, 4), (2, 3, 3), (3, 2, 2), (3, 3, 0), (4, 1, 3), (4, 2, 0))
+    for count, budget, above in sizes:
         for one, other in safe_pairs(count, budget, above):
             yield one, other, budget
 
