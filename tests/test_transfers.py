@@ -229,10 +229,17 @@ class ShowsTransfersTest(unittest.TestCase):
             ((0, 1), True), ((0, 0), False), ((1, 1), False), ((0, -2), False), ((-3, 1), False), ((-3, -2), False),
             ((0, True), False), ((False, 1), False), ((False, True), False), ((0, 3), False), ((3, 1), False),
             ((0, 10 ** 30), False), ((0, "1"), False), ((0, b"1"), False), ((0, (1,)), False), ((1, 0), False),
+            ((0, -1), False), ((-1, 1), False),
         ):
             with self.subTest(repr(pair)):
                 self.assertIs(self.shows((pair, (0, 2))), right)
                 self.assertIs(self.shows(((0, 2), pair)), right)
+
+    def test_indexes_from_the_end(self):
+        for thing in (((0, 1), (0, -1)), ((0, -2), (0, 2)), ((-3, 1), (0, 2)), ((0, 1), (-3, -1))):
+            with self.subTest(thing):
+                self.assertIs(self.shows(thing), False)
+        self.assertIs(shows_transfers((3, 2), (2, 3), 2, ((0, -1),)), False)
 
     def test_equal_indexes_behind_the_end(self):
         for pair in ((0, 0), (2, 2), (True, True), (3, 3), (-1, -1)):
